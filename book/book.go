@@ -1,0 +1,96 @@
+// Package book keeps the orders that rest in one book, each side from the best one on.
+package book
+
+import "pit/api"
+
+// Book is one book. It trusts its caller: sides and numbers are checked ahead of it.
+type Book struct {
+	phase  int
+	traded int
+	sides  [2]side // those that buy, those that sell
+}
+
+// New makes a book in which nothing rests.
+func New() *Book {
+	b := &Book{phase: api.Gathering}
+	buys, sells := b.side(api.Buy), b.side(api.Sell)
+	buys.beats = buys.above
+	sells.beats = sells.below
+	return b
+}
+
+func (b *Book) side(number int) *side { return &b.sides[number-api.Buy] }
+
+// find tells on which side and at which place an order rests, nil if it does not.
+func (b *Book) find(id int) (*side, int) {
+	for i := range b.sides {
+		if at := b.sides[i].find(id); at >= 0 {
+			return &b.sides[i], at
+		}
+	}
+	return nil, -1
+}
+
+// State tells how the book stands.
+func (b *Book) State() api.State {
+	return api.State{
+		Phase:  b.phase,
+		Buys:   len(b.side(api.Buy).orders),
+		Sells:  len(b.side(api.Sell).orders),
+		Traded: b.traded,
+	}
+}
+
+// Gathers tells whether orders only come to rest here.
+func (b *Book) Gathers() bool { return b.phase == api.Gathering }
+
+// Full tells whether no more orders may rest here.
+func (b *Book) Full() bool {
+	resting := 0
+	for i := range b.sides {
+		resting += len(b.sides[i].orders)
+	}
+	return resting >= api.MaxResting
+}
+
+// Depth tells the best prices of a side, most of them at most, all if most is below 0.
+func (b *Book) Depth(side, most int) []api.Level { return b.side(side).levels(most) }
+
+// Order tells an order that rests here, and whether it does.
+func (b *Book) Order(id int) (api.Order, bool) {
+	s, at := b.find(id)
+	if s == nil {
+		return api.Order{}, false
+	}
+	return s.orders[at], true
+}
+
+// Of tells what rests of a trader: first what buys, then what sells, from the best one on.
+func (b *Book) Of(trader int) []api.Order {
+	var out []api.Order
+	for i := range b.sides {
+		for _, o := range b.sides[i].orders {
+			if o.Trader == trader {
+				out = append(out, o)
+			}
+		}
+	}
+	return out
+}
+
+// Put lets an order rest on its side, behind all that are as good.
+func (b *Book) Put(o api.Order) { b.side(o.Side).put(o) }
+
+// Remove lets an order rest no more.
+func (b *Book) Remove(id int) {
+	if s, at := b.find(id); s != nil {
+		s.remove(at)
+	}
+}
+
+// Reopen says anew what is open of an order, which keeps its place.
+func (b *Book) Reopen(id, open int) {
+	if s, at := b.find(id); s != nil {
+		s.orders[at].Open = open
+	}
+}
