@@ -1,18 +1,23 @@
-// Package book keeps the orders that rest in one book, each side from the best one on.
+// Package book keeps the orders that rest in one book, each side from the best one on, and lets them trade.
 package book
 
-import "pit/api"
+import (
+	"sync/atomic"
+
+	"pit/api"
+)
 
 // Book is one book. It trusts its caller: sides and numbers are checked ahead of it.
 type Book struct {
 	phase  int
 	traded int
-	sides  [2]side // those that buy, those that sell
+	total  *atomic.Int64 // of all books, which may be at work at the same time
+	sides  [2]side       // those that buy, those that sell
 }
 
-// New makes a book in which nothing rests.
-func New() *Book {
-	b := &Book{phase: api.Gathering}
+// New makes a book in which nothing rests. What it trades is counted in the total too.
+func New(total *atomic.Int64) *Book {
+	b := &Book{phase: api.Gathering, total: total}
 	buys, sells := b.side(api.Buy), b.side(api.Sell)
 	buys.beats = buys.above
 	sells.beats = sells.below
@@ -20,6 +25,9 @@ func New() *Book {
 }
 
 func (b *Book) side(number int) *side { return &b.sides[number-api.Buy] }
+
+// facing is the side that an order of the given one meets.
+func (b *Book) facing(number int) *side { return b.side(api.Buy + api.Sell - number) }
 
 // find tells on which side and at which place an order rests, nil if it does not.
 func (b *Book) find(id int) (*side, int) {
@@ -41,11 +49,11 @@ func (b *Book) State() api.State {
 	}
 }
 
-// Gathers tells whether orders only come to rest here.
-func (b *Book) Gathers() bool { return b.phase == api.Gathering }
+// Phase tells whether the book is Gathering or Trading.
+func (b *Book) Phase() int { return b.phase }
 
-// Full tells whether no more orders may rest here.
-func (b *Book) Full() bool {
+// full tells whether no more orders may rest here.
+func (b *Book) full() bool {
 	resting := 0
 	for i := range b.sides {
 		resting += len(b.sides[i].orders)
@@ -77,9 +85,6 @@ func (b *Book) Of(trader int) []api.Order {
 	}
 	return out
 }
-
-// Put lets an order rest on its side, behind all that are as good.
-func (b *Book) Put(o api.Order) { b.side(o.Side).put(o) }
 
 // Remove lets an order rest no more.
 func (b *Book) Remove(id int) {

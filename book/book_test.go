@@ -2,6 +2,7 @@ package book
 
 import (
 	"slices"
+	"sync/atomic"
 	"testing"
 
 	"pit/api"
@@ -16,9 +17,9 @@ func ids(l []api.Order) []int {
 }
 
 func filled(side int, prices ...int) *Book {
-	b := New()
+	b := New(new(atomic.Int64))
 	for i, price := range prices {
-		b.Put(api.Order{Id: i + 1, Trader: 1, Book: 1, Side: side, Price: price, Open: 10})
+		b.Enter(api.Order{Id: i + 1, Trader: 1, Book: 1, Side: side, Price: price, Open: 10}, api.Rest)
 	}
 	return b
 }
@@ -40,7 +41,7 @@ func TestBestFirst(t *testing.T) {
 
 func TestSidesAreApart(t *testing.T) {
 	b := filled(api.Buy, 100)
-	b.Put(api.Order{Id: 2, Trader: 1, Book: 1, Side: api.Sell, Price: 90, Open: 7})
+	b.Enter(api.Order{Id: 2, Trader: 1, Book: 1, Side: api.Sell, Price: 90, Open: 7}, api.Rest)
 	if got := ids(b.Of(1)); !slices.Equal(got, []int{1, 2}) {
 		t.Errorf("Of(1) = %v", got)
 	}
@@ -76,18 +77,18 @@ func TestWhatDoesNotRest(t *testing.T) {
 }
 
 func TestFull(t *testing.T) {
-	b := New()
+	b := New(new(atomic.Int64))
 	for i := range api.MaxResting {
-		if b.Full() {
+		if b.full() {
 			t.Fatalf("full with %d", i)
 		}
-		b.Put(api.Order{Id: i + 1, Trader: 1, Book: 1, Side: api.Buy + i%2, Price: 100, Open: 1})
+		b.Enter(api.Order{Id: i + 1, Trader: 1, Book: 1, Side: api.Buy + i%2, Price: 100, Open: 1}, api.Rest)
 	}
-	if !b.Full() {
+	if !b.full() {
 		t.Fatalf("not full with %d", api.MaxResting)
 	}
 	b.Remove(7)
-	if b.Full() {
+	if b.full() {
 		t.Fatal("full with one gone")
 	}
 }

@@ -3,6 +3,7 @@ package pit
 import (
 	"pit/api"
 	"pit/book"
+	"pit/event"
 )
 
 func (p *Pit) book(number int) *book.Book { return p.books[number-1] }
@@ -26,32 +27,24 @@ func (p *Pit) restingOf(trader, id int) (api.Order, bool) {
 	return o, true
 }
 
-// enter does the command New.
-func (p *Pit) enter(c api.Command) []api.Event {
-	if e := p.barred(c); e != api.OK {
-		return refused(c.Id, e)
-	}
-	o := api.Order{Id: c.Id, Trader: c.Trader, Book: c.Book, Side: c.Side, Price: c.Price, Open: c.Count}
-	p.book(o.Book).Put(o)
-	return []api.Event{taken(o), rests(o)}
+// refused is the whole answer to a command: with it nothing else is said.
+func refused(id int, e api.Errno) []api.Event {
+	return []api.Event{event.Refused(id, e)}
 }
 
-// barred tells why a New is refused, OK if it is not.
-func (p *Pit) barred(c api.Command) api.Errno {
+// enter does the command New.
+func (p *Pit) enter(c api.Command) []api.Event {
 	if !newNumbers(c) {
-		return api.ErrNumber
+		return refused(c.Id, api.ErrNumber)
 	}
 	if _, known := p.resting(c.Id); known {
-		return api.ErrKnown
+		return refused(c.Id, api.ErrKnown)
 	}
-	b := p.book(c.Book)
-	if b.Gathers() && c.Kind != api.Rest {
-		return api.ErrPhase
+	o := api.Order{Id: c.Id, Trader: c.Trader, Book: c.Book, Side: c.Side, Price: c.Price, Open: c.Count}
+	if e := p.book(o.Book).Bars(o, c.Kind); e != api.OK {
+		return refused(c.Id, e)
 	}
-	if b.Full() {
-		return api.ErrFull
-	}
-	return api.OK
+	return p.book(o.Book).Enter(o, c.Kind)
 }
 
 func (p *Pit) cancel(c api.Command) []api.Event {
@@ -63,7 +56,7 @@ func (p *Pit) cancel(c api.Command) []api.Event {
 		return refused(c.Id, api.ErrNone)
 	}
 	p.book(o.Book).Remove(o.Id)
-	return []api.Event{gone(o)}
+	return []api.Event{event.Gone(o)}
 }
 
 func (p *Pit) change(c api.Command) []api.Event {
@@ -84,17 +77,16 @@ func (p *Pit) change(c api.Command) []api.Event {
 func (p *Pit) shrink(o api.Order, count int) []api.Event {
 	o.Open = count
 	p.book(o.Book).Reopen(o.Id, o.Open)
-	return []api.Event{rests(o)}
+	return []api.Event{event.Rests(o)}
 }
 
-// replace takes an order out and enters it anew. That is never refused: its number and its room are free by then.
+// replace takes an order out and enters it anew. Nothing bars that: its number and its room are free by then.
 func (p *Pit) replace(o api.Order, price, count int) []api.Event {
-	p.book(o.Book).Remove(o.Id)
-	anew := api.Command{
-		What: api.New, Id: o.Id, Trader: o.Trader, Book: o.Book,
-		Side: o.Side, Kind: api.Rest, Price: price, Count: count,
-	}
-	return append([]api.Event{gone(o)}, p.enter(anew)...)
+	b := p.book(o.Book)
+	b.Remove(o.Id)
+	out := []api.Event{event.Gone(o)}
+	o.Price, o.Open = price, count
+	return append(out, b.Enter(o, api.Rest)...)
 }
 
 func (p *Pit) cancelAll(c api.Command) []api.Event {
@@ -105,8 +97,33 @@ func (p *Pit) cancelAll(c api.Command) []api.Event {
 	for _, b := range p.books {
 		for _, o := range b.Of(c.Trader) {
 			b.Remove(o.Id)
-			out = append(out, gone(o))
+			out = append(out, event.Gone(o))
 		}
 	}
 	return out
+}
+
+func (p *Pit) open(c api.Command) []api.Event {
+	if e := p.phased(c.Book, api.Gathering); e != api.OK {
+		return refused(0, e)
+	}
+	return p.book(c.Book).Open()
+}
+
+func (p *Pit) close(c api.Command) []api.Event {
+	if e := p.phased(c.Book, api.Trading); e != api.OK {
+		return refused(0, e)
+	}
+	return p.book(c.Book).Close()
+}
+
+// phased tells why a command that wants a book in a phase is refused, OK if it is not.
+func (p *Pit) phased(book, phase int) api.Errno {
+	if !isBook(book) {
+		return api.ErrNumber
+	}
+	if p.book(book).Phase() != phase {
+		return api.ErrPhase
+	}
+	return api.OK
 }

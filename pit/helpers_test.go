@@ -35,6 +35,15 @@ func cancelAll(trader int) api.Command {
 	return api.Command{What: api.CancelAll, Trader: trader}
 }
 
+func opening(book int) api.Command { return api.Command{What: api.Open, Book: book} }
+func closing(book int) api.Command { return api.Command{What: api.Close, Book: book} }
+
+// of tells a New as one of another kind.
+func of(kind int, c api.Command) api.Command {
+	c.Kind = kind
+	return c
+}
+
 func refused(id int, e api.Errno) api.Event {
 	return api.Event{What: api.Refused, Id: id, Error: e}
 }
@@ -46,6 +55,16 @@ func rests(id, price, count int) api.Event {
 }
 
 func gone(id, count int) api.Event { return api.Event{What: api.Gone, Id: id, Count: count} }
+
+func traded(id, other, price, count int) api.Event {
+	return api.Event{What: api.Traded, Id: id, Other: other, Price: price, Count: count}
+}
+
+func opened(price, count int) api.Event {
+	return api.Event{What: api.Opened, Price: price, Count: count}
+}
+
+func closed() api.Event { return api.Event{What: api.Closed} }
 
 // does checks the events of a command.
 func does(t *testing.T, p *pit.Pit, c api.Command, want ...api.Event) {
@@ -77,6 +96,12 @@ func begun(t *testing.T, l ...api.Command) *pit.Pit {
 	return p
 }
 
+// trading: the same, book 1 is Trading first.
+func trading(t *testing.T, l ...api.Command) *pit.Pit {
+	t.Helper()
+	return begun(t, append([]api.Command{opening(1)}, l...)...)
+}
+
 func depth(t *testing.T, p *pit.Pit, book, side, most int, want ...api.Level) {
 	t.Helper()
 	if got, e := p.Depth(book, side, most); !slices.Equal(got, want) || e != api.OK {
@@ -84,7 +109,7 @@ func depth(t *testing.T, p *pit.Pit, book, side, most int, want ...api.Level) {
 	}
 }
 
-// seen is all that a pit tells of itself without being changed. (The numbers up to 300 are asked for, and the greatest.)
+// seen is all that a pit tells of itself without being changed. (The numbers up to 400 are asked for, and the greatest.)
 type seen struct {
 	states []api.State
 	levels [][]api.Level
@@ -102,7 +127,7 @@ func view(p *pit.Pit) seen {
 			s.levels = append(s.levels, slices.Clone(l))
 		}
 	}
-	for id := 1; id <= 300; id++ {
+	for id := 1; id <= 400; id++ {
 		o, _ := p.Order(id)
 		s.orders = append(s.orders, o)
 	}
@@ -117,6 +142,16 @@ func full(t *testing.T) *pit.Pit {
 	p := pit.New()
 	for i := range api.MaxResting {
 		does(t, p, order(1+i, 1, 1, api.Buy+i%2, 100, 2), taken(1+i, 2), rests(1+i, 100, 2))
+	}
+	return p
+}
+
+// fullTrading: a pit whose book 1 trades, with 100 orders of trader 1 that buy at 100, and 100 that sell at 101.
+func fullTrading(t *testing.T) *pit.Pit {
+	t.Helper()
+	p := trading(t)
+	for i := range api.MaxResting {
+		does(t, p, order(1+i, 1, 1, api.Buy+i%2, 100+i%2, 2), taken(1+i, 2), rests(1+i, 100+i%2, 2))
 	}
 	return p
 }

@@ -14,7 +14,11 @@ func fields(c *api.Command) []*int {
 }
 
 func TestP1NoCallPanics(t *testing.T) {
-	p := begun(t, buy(1, 100, 5), sell(2, 90, 7))
+	noCallPanics(begun(t, buy(1, 100, 5), sell(2, 90, 7)))
+	noCallPanics(trading(t, buy(1, 100, 5), sell(2, 110, 7), order(3, 2, 1, api.Sell, 105, 9)))
+}
+
+func noCallPanics(p *pit.Pit) {
 	for what := -1; what <= 8; what++ {
 		for i := 1; i < 8; i++ {
 			for j := i; j < 8; j++ {
@@ -53,6 +57,8 @@ func TestP1APitThatNewDidNotMake(t *testing.T) {
 		p.Run(nil)
 		does(t, p, buy(1, 100, 5), taken(1, 5), rests(1, 100, 5))
 		does(t, p, buy(0, 100, 5), refused(0, api.ErrNumber))
+		does(t, p, closing(1), refused(0, api.ErrPhase))
+		does(t, p, opening(2), opened(0, 0))
 	}
 }
 
@@ -71,6 +77,28 @@ func TestP1FirstErrorOfNew(t *testing.T) {
 	holds(t, p, c, refused(201, api.ErrFull))
 	c.Id = 1 // in use, full
 	holds(t, p, c, refused(1, api.ErrKnown))
+}
+
+// The same, where books trade: ErrMatch comes ahead of ErrFull.
+func TestP1FirstErrorOfNewWhileTrading(t *testing.T) {
+	p := fullTrading(t)
+	for kind, e := range map[int]api.Errno{api.Post: api.ErrMatch, api.Whole: api.ErrMatch, api.Rest: api.ErrFull} {
+		c := of(kind, order(1, 2, 1, api.Buy, 0, 1000)) // no price, in use, would trade or not whole, full
+		holds(t, p, c, refused(1, api.ErrNumber))
+		c.Price = 101
+		holds(t, p, c, refused(1, api.ErrKnown))
+		c.Id = 201
+		holds(t, p, c, refused(201, e))
+	}
+	holds(t, p, of(api.Post, order(201, 2, 1, api.Buy, 100, 1)), refused(201, api.ErrFull))
+}
+
+func TestP1FirstErrorOfOpenAndClose(t *testing.T) {
+	p := trading(t, buy(1, 100, 5))
+	holds(t, p, opening(0), refused(0, api.ErrNumber))
+	holds(t, p, closing(9), refused(0, api.ErrNumber))
+	holds(t, p, opening(1), refused(0, api.ErrPhase))
+	holds(t, p, closing(2), refused(0, api.ErrPhase))
 }
 
 func TestP1FirstErrorOfCancelAndChange(t *testing.T) {

@@ -21,7 +21,11 @@ func session() []api.Command {
 	for i := range 250 {
 		l = append(l, order(10+i, 1+i%3, 3, api.Buy+i%2, 50+i%7, 1+i))
 	}
-	return append(l, cancelAll(2), change(10, 1, 60, 2))
+	l = append(l, cancelAll(2), change(10, 1, 60, 2), opening(3), opening(1), opening(1), closing(2), opening(9))
+	for i := range 60 { // every kind, at prices that meet and such that do not
+		l = append(l, of(1+i%5, order(300+i, 1+i%4, 1+2*(i%2), api.Buy+i/5%2, 50+i%7, 1+20*i)))
+	}
+	return append(l, change(300, 1, 57, 90), cancelAll(1), closing(3), order(400, 2, 3, api.Buy, 100, 500), opening(3), closing(1))
 }
 
 // scribble writes into a list and its spare room.

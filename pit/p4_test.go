@@ -85,10 +85,65 @@ func TestP4Look(t *testing.T) {
 	}
 }
 
-// Nothing is traded in books that gather, though the prices meet.
-func TestP4Volume(t *testing.T) {
-	p := begun(t, order(1, 1, 1, api.Buy, 100, 5), order(2, 2, 1, api.Sell, 90, 5))
-	if n := p.Volume(); n != 0 {
-		t.Errorf("Volume() = %d", n)
+// counts checks how much was traded in each book, and in all.
+func counts(t *testing.T, p *pit.Pit, want ...int) {
+	t.Helper()
+	sum := 0
+	for i, n := range want {
+		sum += n
+		if x, e := p.Look(1 + i); x.Traded != n || e != api.OK {
+			t.Errorf("Look(%d) = %+v, %d, want %d traded", 1+i, x, e, n)
+		}
+	}
+	if n := p.Volume(); n != sum {
+		t.Errorf("Volume() = %d, want %d", n, sum)
+	}
+}
+
+func TestP4WhatWasTraded(t *testing.T) {
+	p := begun(t, order(1, 1, 1, api.Buy, 100, 5), order(2, 2, 1, api.Sell, 90, 7))
+	counts(t, p, 0, 0) // nothing is traded in books that gather, though the prices meet
+	does(t, p, opening(1), traded(1, 2, 90, 5), opened(90, 5))
+	counts(t, p, 5, 0)
+	does(t, p, order(3, 3, 1, api.Buy, 90, 1), taken(3, 1), traded(3, 2, 90, 1))
+	counts(t, p, 6, 0)
+	does(t, p, order(4, 2, 1, api.Buy, 95, 4), taken(4, 4), gone(2, 1), rests(4, 95, 4)) // what is gone is not traded
+	counts(t, p, 6, 0)
+	does(t, p, opening(2), opened(0, 0))
+	does(t, p, order(5, 1, 2, api.Sell, 1, api.MaxCount), taken(5, api.MaxCount), rests(5, 1, api.MaxCount))
+	does(t, p, of(api.Any, order(6, 2, 2, api.Buy, 0, api.MaxCount)), taken(6, api.MaxCount), traded(6, 5, 1, api.MaxCount))
+	counts(t, p, 6, api.MaxCount)
+	does(t, p, closing(1), closed())
+	does(t, p, order(7, 1, 1, api.Sell, 95, 2), taken(7, 2), rests(7, 95, 2))
+	does(t, p, opening(1), traded(4, 7, 95, 2), opened(95, 2))
+	counts(t, p, 8, api.MaxCount, 0, 0, 0, 0, 0, 0)
+	holds(t, p, of(api.Whole, order(8, 1, 1, api.Sell, 95, 3)), refused(8, api.ErrMatch))
+	counts(t, p, 8, api.MaxCount)
+}
+
+func TestP4LookWhileTrading(t *testing.T) {
+	p := trading(t, buy(1, 100, 5), sell(2, 101, 7), sell(3, 101, 7))
+	look := func(want api.State) {
+		t.Helper()
+		if x, e := p.Look(1); x != want || e != api.OK {
+			t.Errorf("Look(1) = %+v, %d, want %+v", x, e, want)
+		}
+	}
+	look(api.State{Phase: api.Trading, Buys: 1, Sells: 2})
+	does(t, p, order(4, 2, 1, api.Buy, 101, 8), taken(4, 8), traded(4, 2, 101, 7), traded(4, 3, 101, 1))
+	look(api.State{Phase: api.Trading, Buys: 1, Sells: 1, Traded: 8})
+	depth(t, p, 1, api.Sell, -1, api.Level{Price: 101, Count: 6, Orders: 1})
+	if o, e := p.Order(3); o != (api.Order{Id: 3, Trader: 1, Book: 1, Side: api.Sell, Price: 101, Open: 6}) || e != api.OK {
+		t.Errorf("Order(3) = %+v, %d", o, e)
+	}
+	for _, id := range []int{2, 4} { // of these nothing is open
+		if o, e := p.Order(id); o != (api.Order{}) || e != api.ErrNone {
+			t.Errorf("Order(%d) = %+v, %d", id, o, e)
+		}
+	}
+	does(t, p, closing(1), closed())
+	look(api.State{Phase: api.Gathering, Buys: 1, Sells: 1, Traded: 8})
+	if x, _ := p.Look(2); x != (api.State{Phase: api.Gathering}) {
+		t.Errorf("Look(2) = %+v", x)
 	}
 }

@@ -27,7 +27,7 @@ func (p *Pit) ready() *Pit {
 	}
 	for i := range p.books {
 		if p.books[i] == nil {
-			p.books[i] = book.New()
+			p.books[i] = book.New(&p.traded)
 		}
 	}
 	return p
@@ -45,8 +45,10 @@ func (p *Pit) Do(c api.Command) []api.Event {
 		return p.change(c)
 	case api.CancelAll:
 		return p.cancelAll(c)
-	case api.Open, api.Close: // books only gather so far
-		return nil
+	case api.Open:
+		return p.open(c)
+	case api.Close:
+		return p.close(c)
 	}
 	return refused(0, api.ErrCommand)
 }
