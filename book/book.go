@@ -2,6 +2,7 @@
 package book
 
 import (
+	"slices"
 	"sync/atomic"
 
 	"pit/api"
@@ -73,17 +74,14 @@ func (b *Book) Order(id int) (api.Order, bool) {
 	return s.orders[at], true
 }
 
-// Of tells what rests of a trader: first what buys, then what sells, from the best one on.
+// Orders tells all that rests: first what buys, then what sells, from the best one on.
+func (b *Book) Orders() []api.Order {
+	return slices.Concat(b.side(api.Buy).orders, b.side(api.Sell).orders)
+}
+
+// Of tells what rests of a trader, in the same order.
 func (b *Book) Of(trader int) []api.Order {
-	var out []api.Order
-	for i := range b.sides {
-		for _, o := range b.sides[i].orders {
-			if o.Trader == trader {
-				out = append(out, o)
-			}
-		}
-	}
-	return out
+	return slices.DeleteFunc(b.Orders(), func(o api.Order) bool { return o.Trader != trader })
 }
 
 // Remove lets an order rest no more.

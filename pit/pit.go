@@ -10,8 +10,8 @@ import (
 
 // Pit is all books.
 type Pit struct {
-	books  [api.MaxBooks]*book.Book // the book with the number 1 first
-	traded atomic.Int64             // in all books
+	all    desk
+	traded atomic.Int64 // in all books
 }
 
 // New makes a pit.
@@ -25,48 +25,45 @@ func (p *Pit) ready() *Pit {
 	if p == nil {
 		return New()
 	}
-	for i := range p.books {
-		if p.books[i] == nil {
-			p.books[i] = book.New(&p.traded)
+	for i, b := range p.all.books {
+		if b == nil {
+			p.all.books[i] = book.New(&p.traded)
 		}
 	}
 	return p
 }
 
 // Do does a command (P3).
-func (p *Pit) Do(c api.Command) []api.Event {
-	p = p.ready()
-	switch c.What {
-	case api.New:
-		return p.enter(c)
-	case api.Cancel:
-		return p.cancel(c)
-	case api.Change:
-		return p.change(c)
-	case api.CancelAll:
-		return p.cancelAll(c)
-	case api.Open:
-		return p.open(c)
-	case api.Close:
-		return p.close(c)
-	}
-	return refused(0, api.ErrCommand)
-}
+func (p *Pit) Do(c api.Command) []api.Event { return p.ready().all.do(c) }
 
-// Run does some (P5).
-func (p *Pit) Run(l []api.Command) [][]api.Event { return nil }
+// Run does some (P5). What it answers is as if they were done one behind the other.
+func (p *Pit) Run(l []api.Command) [][]api.Event {
+	p = p.ready()
+	out := make([][]api.Event, len(l))
+	t := newTeam(&p.all, l)
+	for at, c := range l {
+		if c.What == api.CancelAll { // it asks every book, so that no worker may be at one
+			t.finish()
+			out[at] = p.all.do(c)
+			continue
+		}
+		t.send(c, &out[at])
+	}
+	t.finish()
+	return out
+}
 
 // Depth tells what rests on a side, by prices (P4).
 func (p *Pit) Depth(book int, side int, most int) ([]api.Level, api.Errno) {
 	if !isBook(book) || !isSide(side) {
 		return nil, api.ErrNumber
 	}
-	return p.ready().book(book).Depth(side, most), api.OK
+	return p.ready().all.book(book).Depth(side, most), api.OK
 }
 
 // Order tells an order (P4).
 func (p *Pit) Order(id int) (api.Order, api.Errno) {
-	o, ok := p.ready().resting(id)
+	o, ok := p.ready().all.resting(id)
 	if !ok {
 		return api.Order{}, api.ErrNone
 	}
@@ -78,7 +75,7 @@ func (p *Pit) Look(book int) (api.State, api.Errno) {
 	if !isBook(book) {
 		return api.State{}, api.ErrNumber
 	}
-	return p.ready().book(book).State(), api.OK
+	return p.ready().all.book(book).State(), api.OK
 }
 
 // Volume tells how much was traded (P4).
